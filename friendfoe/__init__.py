@@ -1,0 +1,1 @@
+"""Friendfoe: webs of friends and foes, and papers for what is told of them."""

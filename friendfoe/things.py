@@ -1,0 +1,21 @@
+"""What a thing of any kind is: asked ahead of any other look at it, the thing last."""
+
+
+def is_whole(thing):
+    """Whether it is a whole number; a truth is an int to Python, but no whole number."""
+    return isinstance(thing, int) and not isinstance(thing, bool)
+
+
+def is_whole_from(low, thing):
+    """Whether it is a whole number from low on."""
+    return is_whole(thing) and thing >= low
+
+
+def is_whole_below(limit, thing):
+    """Whether it is a whole number from 0 on, less than limit."""
+    return is_whole(thing) and 0 <= thing < limit
+
+
+def is_tuple_of(length, thing):
+    """Whether it is a tuple with so many parts."""
+    return isinstance(thing, tuple) and len(thing) == length

@@ -1,0 +1,118 @@
+"""Webs to ask about, and things of any kind that are no such thing."""
+
+import copy
+import random
+
+SIXTY = 10 ** 59  # the least whole number of sixty figures
+
+
+def deep(many, make):
+    """A thing so many tuples, lists or dicts deep."""
+    thing = make(0)
+    for level in range(many - 1):
+        thing = make(thing)
+    return thing
+
+
+def plain_wrong():
+    """Things that are no web, weights, sides, ring, layers or text of a web, whatever the web (but None: weights)."""
+    return [
+        None, True, False, 0, 1, 2, -1, SIXTY, -SIXTY,
+        "", " ", "\n", "web", "friend", "foe", "None", "(1, ())", "x" * 6000,
+        [], [1, []], [1, ()], {}, {0: 1}, {"web": 1}, {0: 1, 1: ()},
+        (None,), ("",), ([],), ((),), ({},), (True,), (None, None), ("web", 1), ((), ()), ((), 1), ([], ()),
+        (True, ()), (False, ()), (1, None), (1, []), (1, {}), (1, ""), (0, ()), (-1, ()), ("1", ()), (None, ()),
+        deep(30, lambda part: (part,)),
+        deep(30, lambda part: [part]),
+        deep(30, lambda part: {0: part}),
+        deep(30, lambda part: (part, part) if part == 0 else (1, part)),
+        tuple(range(20000)), list(range(20000)), (None,) * 20000, tuple([()] * 19999),
+        dict.fromkeys(range(10000), 0),
+    ]
+
+
+def other_numbers(number):
+    """What may not stand where a whole number from 0 on is asked."""
+    return [True, False, None, str(number), "", [number], (number,), {number: number}, {}, (), [],
+            -1 - number, -1, -SIXTY, deep(27, lambda part: (part,))]
+
+
+def other_texts(text):
+    """What may not stand where one of the words friend and foe is asked."""
+    return [None, True, 0, 1, "", text + " ", " " + text, text + "s", text[:-1], text.upper(), text.title(),
+            "friendfoe", "enemy", (text,), [text], {text: text}, ()]
+
+
+def other_tuples(parts):
+    """What may not stand where a tuple is asked."""
+    return [list(parts), dict(enumerate(parts)), None, True, 0, "", str(parts), [], {}]
+
+
+def spoiled(thing):
+    """Copies of a thing of tuples, whole numbers and texts, one of its parts, or itself, of another kind in each."""
+    if isinstance(thing, tuple):
+        yield from other_tuples(thing)
+        for at, part in enumerate(thing):
+            for other in spoiled(part):
+                yield thing[:at] + (other,) + thing[at + 1:]
+    elif isinstance(thing, str):
+        yield from other_texts(thing)
+    elif isinstance(thing, int):
+        yield from other_numbers(thing)
+
+
+def great_web(seed=1, kinds=("friend", "foe"), many=40, ties=120):
+    """A web of forty places and 120 ties."""
+    chance = random.Random(seed)
+    rows = []
+    for number in range(ties):
+        one, other = chance.sample(range(many), 2)
+        rows.append((one, other, chance.choice(kinds)))
+    return (many, tuple(rows))
+
+
+def great_holding_web(seed=1, many=40, ties=120):
+    """A web of forty places and 120 ties, and sides that hold in it."""
+    chance = random.Random(seed)
+    sides = [chance.randrange(2) for place in range(many)]
+    web = great_web(seed, ("friend",), many, ties)
+    rows = [(one, other, "friend" if sides[one] == sides[other] else "foe") for one, other, kind in web[1]]
+    return (many, tuple(rows)), tuple(sides)
+
+
+def small_webs(many_webs=300, seed=7, places=6, ties=8):
+    """Small webs of all sorts, the same ones each time."""
+    chance = random.Random(seed)
+    webs = [(1, ()), (2, ()), (5, ())]
+    for number in range(many_webs):
+        many = chance.randint(2, places)
+        webs.append(great_web(chance.random(), many=many, ties=chance.randint(0, ties)))
+    return webs
+
+
+WEBS = [
+    (1, ()),
+    (3, ()),
+    (2, ((0, 1, "friend"),)),
+    (2, ((1, 0, "foe"),)),
+    (2, ((0, 1, "friend"), (0, 1, "friend"))),
+    (2, ((0, 1, "friend"), (1, 0, "foe"))),
+    (3, ((0, 1, "foe"), (1, 2, "foe"), (2, 0, "foe"))),
+    (6, ((5, 3, "foe"), (1, 4, "friend"), (3, 1, "foe"), (4, 5, "friend"))),
+    great_web(),
+    great_holding_web()[0],
+]
+
+
+def assert_truth(case, asked, expected):
+    """The answer is the truth itself, not a number or another thing that counts as one."""
+    case.assertIs(asked, expected)
+
+
+def assert_steady(case, function, *handed):
+    """Asked again, the same is told, and what is handed in is as it was."""
+    kept = copy.deepcopy(handed)
+    first = function(*handed)
+    case.assertEqual(repr(handed), repr(kept))
+    case.assertEqual(repr(function(*handed)), repr(first))
+    case.assertEqual(repr(handed), repr(kept))

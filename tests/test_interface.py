@@ -1,0 +1,28 @@
+"""The interface: the names and the arguments of all that has landed."""
+
+import importlib
+import inspect
+import unittest
+
+FUNCTIONS = {
+    "webs": {"is_web": ["thing"], "is_weights": ["web", "thing"], "weight_of": ["weights", "tie"]},
+    "parting": {"parts_of": ["web"]},
+}
+DEFAULTS = {}
+
+
+class Interface(unittest.TestCase):
+    def test_names_and_arguments(self):
+        for module, functions in FUNCTIONS.items():
+            found = importlib.import_module("friendfoe." + module)
+            for name, arguments in functions.items():
+                function = getattr(found, name)
+                parameters = inspect.signature(function).parameters
+                self.assertEqual(list(parameters), arguments, name)
+                self.assertEqual(function.__module__, "friendfoe." + module)
+                defaults = {key: told.default for key, told in parameters.items() if told.default is not told.empty}
+                self.assertEqual(defaults, DEFAULTS.get(name, {}), name)
+
+
+if __name__ == "__main__":
+    unittest.main()
