@@ -1,6 +1,7 @@
 """Webs to ask about, and things of any kind that are no such thing."""
 
 import copy
+import itertools
 import random
 
 SIXTY = 10 ** 59  # the least whole number of sixty figures
@@ -88,6 +89,17 @@ def small_webs(many_webs=300, seed=7, places=6, ties=8):
         many = chance.randint(2, places)
         webs.append(great_web(chance.random(), many=many, ties=chance.randint(0, ties)))
     return webs
+
+
+def all_rings(web):
+    """All rings of a small web, by trying all rows of places and ties."""
+    for length in range(2, web[0] + 1):
+        for places in itertools.permutations(range(web[0]), length):
+            pairs = [{places[at], places[(at + 1) % length]} for at in range(length)]
+            between = [[number for number, tie in enumerate(web[1]) if set(tie[:2]) == pair] for pair in pairs]
+            for ties in itertools.product(*between):
+                if len(set(ties)) == length:
+                    yield (places, ties)
 
 
 WEBS = [

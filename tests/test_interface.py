@@ -7,8 +7,13 @@ import unittest
 FUNCTIONS = {
     "webs": {"is_web": ["thing"], "is_weights": ["web", "thing"], "weight_of": ["weights", "tie"]},
     "parting": {"parts_of": ["web"]},
+    "texting": {"show_web": ["web", "weights"], "read_web": ["text"]},
+    "siding": {"is_sides": ["web", "thing"], "sides_hold": ["web", "thing"], "broken_by": ["web", "sides"],
+               "sides_of": ["web"]},
+    "ringing": {"ring_holds": ["web", "thing"], "foes_in": ["web", "ring"], "odd_ring_holds": ["web", "thing"]},
+    "layering": {"layers_hold": ["web", "number", "thing"]},
 }
-DEFAULTS = {}
+DEFAULTS = {"show_web": {"weights": None}}
 
 
 class Interface(unittest.TestCase):
