@@ -19,3 +19,10 @@ def is_whole_below(limit, thing):
 def is_tuple_of(length, thing):
     """Whether it is a tuple with so many parts."""
     return isinstance(thing, tuple) and len(thing) == length
+
+
+def are_rising_below(limit, thing):
+    """Whether it is a rising tuple of whole numbers from 0 on, each once and less than limit."""
+    if not isinstance(thing, tuple) or not all(is_whole_below(limit, number) for number in thing):
+        return False
+    return all(number < following for number, following in zip(thing, thing[1:]))

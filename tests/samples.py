@@ -102,6 +102,57 @@ def all_rings(web):
                     yield (places, ties)
 
 
+def ring_web(many, foes):
+    """A web of one ring, its first ties foes; of two places: two ties of the same ones."""
+    return (many, tuple((place, (place + 1) % many, "foe" if place < foes else "friend") for place in range(many)))
+
+
+def beside(*webs):
+    """One web of these ones as its parts, the places behind those of the ones ahead, and likewise the ties."""
+    many, ties = 0, ()
+    for web in webs:
+        ties += tuple((one + many, other + many, kind) for one, other, kind in web[1])
+        many += web[0]
+    return (many, ties)
+
+
+def renumbered(web, seed):
+    """The web with its places and ties numbered otherwise, ties written either way; and the new numbers of both."""
+    chance = random.Random(seed)
+    places, numbers = list(range(web[0])), list(range(len(web[1])))
+    chance.shuffle(places)
+    chance.shuffle(numbers)
+    ties = [None] * len(numbers)
+    for number, (one, other, kind) in enumerate(web[1]):
+        one, other = chance.sample([places[one], places[other]], 2)
+        ties[numbers[number]] = (one, other, kind)
+    return (web[0], tuple(ties)), places, numbers
+
+
+def about(web, seed=1):
+    """The web with some of its ties written the other way about."""
+    chance = random.Random(seed)
+    return (web[0], tuple((*chance.sample([one, other], 2), kind) for one, other, kind in web[1]))
+
+
+def flipped(web, number):
+    """The web with the tie of this number of the other kind, and written the other way about."""
+    one, other, kind = web[1][number]
+    return (web[0], web[1][:number] + ((other, one, "foe" if kind == "friend" else "friend"),) + web[1][number + 1:])
+
+
+def some_places(web, seed):
+    """Some of the places, rising."""
+    chance = random.Random(seed)
+    return tuple(place for place in range(web[0]) if chance.randrange(2))
+
+
+def all_choices(many):
+    """All rising tuples of numbers less than many."""
+    for length in range(many + 1):
+        yield from itertools.combinations(range(many), length)
+
+
 WEBS = [
     (1, ()),
     (3, ()),
@@ -119,6 +170,15 @@ WEBS = [
 def assert_truth(case, asked, expected):
     """The answer is the truth itself, not a number or another thing that counts as one."""
     case.assertIs(asked, expected)
+
+
+def assert_plain(case, thing):
+    """It is of tuples, whole numbers and texts alone, without lists, truths and the like."""
+    if type(thing) is tuple:
+        for part in thing:
+            assert_plain(case, part)
+    else:
+        case.assertIn(type(thing), (int, str))
 
 
 def assert_steady(case, function, *handed):

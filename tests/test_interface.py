@@ -12,8 +12,17 @@ FUNCTIONS = {
                "sides_of": ["web"]},
     "ringing": {"ring_holds": ["web", "thing"], "foes_in": ["web", "ring"], "odd_ring_holds": ["web", "thing"]},
     "layering": {"layers_hold": ["web", "number", "thing"]},
+    "shortest": {"shortest_odd": ["web"]},
+    "turning": {"turned": ["web", "places"], "stems": ["web"], "ring_closed": ["web", "tie"], "plain": ["web"]},
+    "framing": {"are_framed": ["one", "other"], "told_turning": ["one", "other"],
+                "turning_holds": ["one", "other", "thing"]},
 }
 DEFAULTS = {"show_web": {"weights": None}}
+CLASSES = {
+    ("standing", "Stand"): {"__init__": ["self", "many"], "come": ["self", "one", "other", "kind"], "back": ["self"],
+                            "web": ["self"], "sides": ["self"], "between": ["self", "one", "other"],
+                            "broken": ["self"]},
+}
 
 
 class Interface(unittest.TestCase):
@@ -27,6 +36,14 @@ class Interface(unittest.TestCase):
                 self.assertEqual(function.__module__, "friendfoe." + module)
                 defaults = {key: told.default for key, told in parameters.items() if told.default is not told.empty}
                 self.assertEqual(defaults, DEFAULTS.get(name, {}), name)
+
+    def test_classes_and_their_own_methods(self):
+        for (module, name), methods in CLASSES.items():
+            found = getattr(importlib.import_module("friendfoe." + module), name)
+            self.assertEqual(found.__module__, "friendfoe." + module)
+            for method, arguments in methods.items():
+                self.assertIn(method, vars(found), name)
+                self.assertEqual(list(inspect.signature(vars(found)[method]).parameters), arguments, (name, method))
 
 
 if __name__ == "__main__":

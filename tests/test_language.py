@@ -126,6 +126,23 @@ class Language(unittest.TestCase):
                 if isinstance(node, ast.Compare) and any(isinstance(op, (ast.Is, ast.IsNot)) for op in node.ops):
                     self.assertTrue(all(isinstance(side, ast.Constant) for side in node.comparators), path.name)
 
+    def test_no_name_is_a_method_here_and_an_attribute_there(self):
+        methods, attributes = set(), set()
+        for path in FILES:
+            for node in ast.walk(tree_of(path)):
+                if isinstance(node, ast.ClassDef):
+                    methods |= {part.name for part in node.body if isinstance(part, ast.FunctionDef)}
+                elif isinstance(node, ast.Attribute) and isinstance(node.ctx, ast.Store):
+                    attributes.add(node.attr)
+        self.assertEqual(methods & attributes, set())
+
+    def test_only_the_listed_double_underscore_methods(self):
+        for path in FILES:
+            for node in ast.walk(tree_of(path)):
+                if isinstance(node, ast.ClassDef):
+                    names = {part.name for part in node.body if isinstance(part, ast.FunctionDef)}
+                    self.assertLessEqual({name for name in names if name.startswith("__")}, {"__init__"}, path.name)
+
 
 if __name__ == "__main__":
     unittest.main()
