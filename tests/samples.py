@@ -153,6 +153,24 @@ def all_choices(many):
         yield from itertools.combinations(range(many), length)
 
 
+def mixed_parts(*webs, seed=1):
+    """One web of these ones as its parts, the places and ties of all numbered amid one another."""
+    return renumbered(beside(*webs), seed)[0]
+
+
+def some_weights(web, seed, most=9):
+    """Weights from 1 to most, some of them at either end."""
+    chance = random.Random(seed)
+    return tuple(chance.choice([1, most, chance.randint(1, most)]) for tie in web[1])
+
+
+def least_slowly(web, weights):
+    """The least weight of ties that some sides break, tried over all sides of all places."""
+    ties = [(*tie, 1 if weights is None else weights[number]) for number, tie in enumerate(web[1])]
+    return min(sum(weight for one, other, kind, weight in ties if (sides[one] == sides[other]) == (kind == "foe"))
+               for sides in itertools.product((0, 1), repeat=web[0]))
+
+
 WEBS = [
     (1, ()),
     (3, ()),

@@ -16,8 +16,11 @@ FUNCTIONS = {
     "turning": {"turned": ["web", "places"], "stems": ["web"], "ring_closed": ["web", "tie"], "plain": ["web"]},
     "framing": {"are_framed": ["one", "other"], "told_turning": ["one", "other"],
                 "turning_holds": ["one", "other", "thing"]},
+    "firsts": {"first_broken": ["web"]},
+    "mending": {"mend_holds": ["web", "thing"], "mend_weight": ["weights", "ties"], "least_mend": ["web", "weights"]},
+    "papering": {"paper_of": ["web", "weights"]},
 }
-DEFAULTS = {"show_web": {"weights": None}}
+DEFAULTS = {name: {"weights": None} for name in ("show_web", "least_mend", "paper_of")}
 CLASSES = {
     ("standing", "Stand"): {"__init__": ["self", "many"], "come": ["self", "one", "other", "kind"], "back": ["self"],
                             "web": ["self"], "sides": ["self"], "between": ["self", "one", "other"],
