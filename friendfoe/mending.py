@@ -1,7 +1,7 @@
 """Mends: ties without which some sides hold, and those of the least weight."""
 
 from friendfoe.errors import TooMany
-from friendfoe.parting import neighbours, parts_of, sides_from
+from friendfoe.parting import neighbours, parts_of, sides_from, ties_within
 from friendfoe.siding import breaks, sides_of
 from friendfoe.things import are_rising_below
 from friendfoe.webs import weight_of
@@ -23,11 +23,6 @@ def mend_holds(web, thing):
 def mend_weight(weights, ties):
     """The weight of all ties of these numbers."""
     return sum(weight_of(weights, tie) for tie in ties)
-
-
-def ties_within(web, part):
-    """The numbers, rising, of the ties between places of a part."""
-    return tuple([number for number, tie in enumerate(web[1]) if tie[0] in part])
 
 
 def odd_parts(web):

@@ -38,3 +38,8 @@ def parts_of(web):
             placed.update(part)
             parts.append(tuple(sorted(part)))
     return tuple(parts)
+
+
+def ties_within(web, part):
+    """The numbers, rising, of the ties between places of a part."""
+    return tuple([number for number, tie in enumerate(web[1]) if tie[0] in part])

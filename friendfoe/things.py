@@ -16,6 +16,11 @@ def is_whole_below(limit, thing):
     return is_whole(thing) and 0 <= thing < limit
 
 
+def are_unlike_places(many, one, other):
+    """Whether two things are unlike places of so many."""
+    return is_whole_below(many, one) and is_whole_below(many, other) and one != other
+
+
 def is_tuple_of(length, thing):
     """Whether it is a tuple with so many parts."""
     return isinstance(thing, tuple) and len(thing) == length

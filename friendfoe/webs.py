@@ -1,6 +1,6 @@
 """Webs and their weights."""
 
-from friendfoe.things import is_tuple_of, is_whole_below, is_whole_from
+from friendfoe.things import are_unlike_places, is_tuple_of, is_whole_from
 
 KINDS = ("friend", "foe")
 
@@ -10,9 +10,7 @@ def is_tie(many, thing):
     if not is_tuple_of(3, thing):
         return False
     one, other, kind = thing
-    if not is_whole_below(many, one) or not is_whole_below(many, other):
-        return False
-    return one != other and kind in KINDS
+    return are_unlike_places(many, one, other) and kind in KINDS
 
 
 def is_web(thing):

@@ -1,5 +1,7 @@
 """Papers read knot by knot, word by word as promise 18 tells them."""
 
+import unittest
+
 from friendfoe.ringing import odd_ring_holds
 from friendfoe.webs import weight_of
 from samples import assert_truth
@@ -47,6 +49,7 @@ class Reader:
             self.case.assertIs(type(row), tuple)
             ties, paper = row
             self.case.assertIs(type(ties), tuple)
+            self.case.assertTrue(all(type(tie) is int for tie in ties))
             self.case.assertEqual(ties, tuple(sorted(set(ties))))
             self.case.assertLessEqual(set(ties), set(given))
             self.case.assertFalse(seen & set(ties))
@@ -61,3 +64,11 @@ class Reader:
         self.case.assertNotEqual(one, other)
         return min(self.knot(first, given, sure + ((one, other, "friend"),)),
                    self.knot(second, given, sure + ((one, other, "foe"),)))
+
+
+def shown_slowly(web, weights, thing):
+    """What the reader finds shown, or None where it finds no paper."""
+    try:
+        return Reader(unittest.TestCase(), web, weights).shown(thing)
+    except (AssertionError, TypeError, ValueError, KeyError):
+        return None

@@ -164,6 +164,109 @@ def some_weights(web, seed, most=9):
     return tuple(chance.choice([1, most, chance.randint(1, most)]) for tie in web[1])
 
 
+def changed(thing, chance, parts):
+    """The thing with one part, anywhere in it, another: one of parts, one more or less, or gone, or there twice."""
+    if isinstance(thing, tuple) and thing and chance.random() < 0.85:
+        at = chance.randrange(len(thing))
+        way = chance.random()
+        if way < 0.08:
+            return thing[:at] + thing[at + 1:]
+        if way < 0.16:
+            return thing[:at + 1] + thing[at:]
+        if way < 0.24:
+            other = chance.randrange(len(thing))
+            row = list(thing)
+            row[at], row[other] = row[other], row[at]
+            return tuple(row)
+        return thing[:at] + (changed(thing[at], chance, parts),) + thing[at + 1:]
+    if type(thing) is int and chance.random() < 0.6:
+        return thing + chance.choice([-1, 1])
+    return chance.choice(parts)
+
+
+def face_corners(ties, orders, first):
+    """The corners of the face of a step, each (place come to, tie come by), by a walk of its own."""
+    corners = []
+    tie, place = first
+    while not corners or (tie, place) != first:
+        one, other = ties[tie]
+        place = other if place == one else one
+        corners.append((place, tie))
+        row = orders[place]
+        tie = row[(row.index(tie) + 1) % len(row)]
+    return corners
+
+
+def flat_frame(chance, many, ties):
+    """Ties, pairs of places, and flat orders of one part: a tree, and ties that each part a face in two."""
+    rows, orders = [], [[] for place in range(many)]
+    for place in range(1, many):
+        near = chance.randrange(place)
+        orders[near].insert(chance.randint(0, len(orders[near])), len(rows))
+        orders[place].append(len(rows))
+        rows.append((near, place))
+    while len(rows) < ties:
+        tie = chance.randrange(len(rows))
+        corners = face_corners(rows, orders, (tie, chance.choice(rows[tie])))
+        (one, by_one), (other, by_other) = chance.choice(corners), chance.choice(corners)
+        if one != other:
+            for place, by in ((one, by_one), (other, by_other)):
+                orders[place].insert(orders[place].index(by) + 1, len(rows))
+            rows.append((one, other))
+    return rows, orders
+
+
+def flat_web(seed, many=6, ties=10, flips=4):
+    """A web of one part and flat orders of it; at most twice as many odd faces as flips."""
+    chance = random.Random(seed)
+    rows, orders = flat_frame(chance, many, ties)
+    sides = [chance.randrange(2) for place in range(many)]
+    kinds = ["friend" if sides[one] == sides[other] else "foe" for one, other in rows]
+    for turn in range(flips if rows else 0):
+        number = chance.randrange(len(rows))
+        kinds[number] = "foe" if kinds[number] == "friend" else "friend"
+    web = (many, tuple((*chance.sample(row, 2), kind) for row, kind in zip(rows, kinds)))
+    return web, spun(orders, seed)
+
+
+def spun(orders, seed):
+    """The same orders, each row begun anywhere."""
+    chance = random.Random(seed)
+    starts = [chance.randrange(len(row)) if row else 0 for row in orders]
+    return tuple(tuple(row[start:]) + tuple(row[:start]) for row, start in zip(orders, starts))
+
+
+def flat_beside(*pairs):
+    """One web, with its orders, of these (web, orders) as its parts."""
+    orders, many = (), 0
+    for web, rows in pairs:
+        orders += tuple(tuple(tie + many for tie in row) for row in rows)
+        many += len(web[1])
+    return beside(*[web for web, rows in pairs]), orders
+
+
+def fan(many):
+    """Two places, and ties between them by turns friend and foe: as many faces in a ring, all of them odd."""
+    ties = tuple((0, 1, "foe" if number % 2 else "friend") for number in range(many))
+    return (2, ties), (tuple(range(many)), tuple(range(many))[::-1])
+
+
+def renumbered_orders(orders, places, numbers):
+    """The orders of a web with the new numbers of places and ties that renumbered tells."""
+    rows = [None] * len(orders)
+    for place, row in enumerate(orders):
+        rows[places[place]] = tuple(numbers[tie] for tie in row)
+    return tuple(rows)
+
+
+def renumbered_weights(weights, numbers):
+    """The weights with the new numbers of ties that renumbered tells."""
+    rows = [None] * len(weights)
+    for number, at in enumerate(numbers):
+        rows[at] = weights[number]
+    return tuple(rows)
+
+
 def least_slowly(web, weights):
     """The least weight of ties that some sides break, tried over all sides of all places."""
     ties = [(*tie, 1 if weights is None else weights[number]) for number, tie in enumerate(web[1])]
@@ -183,6 +286,15 @@ WEBS = [
     great_web(),
     great_holding_web()[0],
 ]
+
+# A ring of three, each place with a foe tie to the place in the middle; flat orders of it, and others.
+WHEEL = (4, ((0, 1, "friend"), (1, 2, "friend"), (2, 0, "foe"), (0, 3, "foe"), (1, 3, "foe"), (2, 3, "foe")))
+FLAT = ((0, 3, 2), (1, 4, 0), (2, 5, 1), (3, 4, 5))
+BAD = ((3, 0, 2), (1, 4, 0), (2, 5, 1), (3, 4, 5))
+
+# Two ties of two places, with flat orders: both faces odd, and none.
+ODD_PAIR = (ring_web(2, 1), ((0, 1), (0, 1)))
+EVEN_PAIR = (ring_web(2, 2), ((0, 1), (0, 1)))
 
 
 def assert_truth(case, asked, expected):
