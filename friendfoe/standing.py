@@ -4,6 +4,7 @@ from friendfoe.errors import NoTie
 from friendfoe.parting import neighbours, sides_from
 from friendfoe.ringing import foes_in
 from friendfoe.siding import sides_of
+from friendfoe.turning import turned
 from friendfoe.ways import ties_around, walk_from, way_to
 
 
@@ -40,6 +41,10 @@ class Stand:
             self.kept.pop()
         else:
             self.lost.pop()
+
+    def turn(self, places):
+        """All ties that are there are turned at the places; what is kept and what broke stays so."""
+        self.ties = list(turned(self.web(), places)[1])
 
     def web(self):
         """The web of all ties that are there, kept or broken, in order."""

@@ -19,12 +19,23 @@ FUNCTIONS = {
     "firsts": {"first_broken": ["web"]},
     "mending": {"mend_holds": ["web", "thing"], "mend_weight": ["weights", "ties"], "least_mend": ["web", "weights"]},
     "papering": {"paper_of": ["web", "weights"]},
+    "checking": {"shown_by": ["web", "weights", "thing"]},
+    "facing": {"is_orders": ["web", "thing"], "faces_of": ["web", "orders"], "are_flat": ["web", "orders"],
+               "odd_faces": ["web", "orders"]},
+    "flatting": {"flat_mend": ["web", "orders", "weights"], "flat_paper": ["web", "orders", "weights"]},
+    "flatchecks": {"flat_paper_holds": ["web", "orders", "weights", "number", "thing"]},
+    "several": {"friends_of": ["web"], "several_hold": ["web", "k", "thing"], "several": ["web", "k"],
+                "least_several": ["web"]},
+    "severalchecks": {"none_holds": ["web", "k", "thing"]},
+    "moving": {"broken_weight": ["web", "weights", "sides"], "leans": ["web", "weights", "sides"],
+               "is_settled": ["web", "weights", "sides"], "settled": ["web", "weights", "sides"]},
 }
-DEFAULTS = {name: {"weights": None} for name in ("show_web", "least_mend", "paper_of")}
+DEFAULTS = {name: {"weights": None} for name in ("show_web", "least_mend", "paper_of", "flat_mend", "flat_paper")}
 CLASSES = {
     ("standing", "Stand"): {"__init__": ["self", "many"], "come": ["self", "one", "other", "kind"], "back": ["self"],
                             "web": ["self"], "sides": ["self"], "between": ["self", "one", "other"],
                             "broken": ["self"]},
+    ("desk", "Desk"): {"__init__": ["self", "many"], "say": ["self", "text"], "now": ["self"]},
 }
 
 
