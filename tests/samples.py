@@ -107,6 +107,11 @@ def ring_web(many, foes):
     return (many, tuple((place, (place + 1) % many, "foe" if place < foes else "friend") for place in range(many)))
 
 
+def full_web(many):
+    """Foes between any two places: an odd ring of three, wherever one looks."""
+    return (many, tuple((one, other, "foe") for one, other in itertools.combinations(range(many), 2)))
+
+
 def beside(*webs):
     """One web of these ones as its parts, the places behind those of the ones ahead, and likewise the ties."""
     many, ties = 0, ()

@@ -7,17 +7,12 @@ from friendfoe.errors import TooMany, WebError
 from friendfoe.mending import least_mend, mend_holds, mend_weight
 from friendfoe.siding import broken_by, sides_of
 from friendfoe.turning import turned
-from samples import (SIXTY, WEBS, all_choices, assert_plain, assert_steady, assert_truth, beside, great_holding_web,
-                     great_web, least_slowly, mixed_parts, plain_wrong, renumbered, ring_web, small_webs, some_places,
-                     some_weights, spoiled)
+from samples import (SIXTY, WEBS, all_choices, assert_plain, assert_steady, assert_truth, beside, full_web,
+                     great_holding_web, great_web, least_slowly, mixed_parts, plain_wrong, renumbered,
+                     ring_web, small_webs, some_places, some_weights, spoiled)
 
 WEB = (5, ((0, 1, "foe"), (1, 2, "foe"), (2, 0, "foe"), (3, 4, "foe"), (4, 3, "friend")))
 GREAT = 10 ** 30
-
-
-def full_web(many):
-    """Foes between any two places: an odd ring of three, wherever one looks."""
-    return (many, tuple((one, other, "foe") for one, other in itertools.combinations(range(many), 2)))
 
 
 class Holds(unittest.TestCase):

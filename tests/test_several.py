@@ -10,16 +10,11 @@ from friendfoe.parting import parts_of
 from friendfoe.ringing import foes_in, ring_holds
 from friendfoe.several import friends_of, least_several, several, several_hold
 from friendfoe.severalchecks import none_holds
-from samples import (SIXTY, WEBS, about, assert_plain, assert_steady, assert_truth, beside, great_holding_web,
-                     great_web, mixed_parts, plain_wrong, renumbered, ring_web, small_webs, spoiled)
+from samples import (SIXTY, WEBS, about, assert_plain, assert_steady, assert_truth, beside, full_web,
+                     great_holding_web, great_web, mixed_parts, plain_wrong, renumbered, ring_web, small_webs, spoiled)
 
 WEB = (6, ((0, 3, "friend"), (3, 1, "foe"), (1, 4, "friend"), (4, 2, "foe"), (2, 0, "foe")))
 ONE_FOE = (4, ((0, 1, "friend"), (1, 2, "friend"), (3, 0, "foe"), (2, 0, "foe")))
-
-
-def full_web(many):
-    """Foes between any two places."""
-    return (many, tuple((one, other, "foe") for one, other in itertools.combinations(range(many), 2)))
 
 
 def foe_ring(many):
@@ -42,10 +37,8 @@ def befriended(web, many, seed=1):
 
 
 def foes_and_friends(seed, friends=8, places=20, foes=16):
-    """A web of one part or more with so many friends, spread over so many places, and no foe tie within them."""
-    chance = random.Random(seed)
-    base = great_web(seed, ("foe",), many=friends, ties=foes)
-    return befriended(base, places, seed)
+    """A web with so many friends, spread over so many places, and no foe tie within them."""
+    return befriended(great_web(seed, ("foe",), many=friends, ties=foes), places, seed)
 
 
 def hold_slowly(web, sides):

@@ -6,8 +6,8 @@ import unittest
 
 from friendfoe.several import least_several, several
 from friendfoe.severalchecks import none_holds
-from samples import (SIXTY, WEBS, about, assert_steady, assert_truth, beside, changed, great_web, plain_wrong,
-                     renumbered, ring_web, small_webs, spoiled)
+from samples import (SIXTY, WEBS, about, assert_steady, assert_truth, beside, changed, full_web, great_web,
+                     plain_wrong, renumbered, ring_web, small_webs, spoiled)
 
 PAIR = (2, ((0, 1, "foe"),))
 TRIANGLE = ring_web(3, 3)
@@ -17,10 +17,6 @@ ONE_FOE = (4, ((0, 1, "friend"), (1, 2, "friend"), (3, 0, "foe"), (2, 0, "foe"))
 FRIENDS = (7, ((0, 1, "friend"), (3, 2, "friend"), (4, 5, "friend"), (1, 2, "foe"), (5, 3, "foe"), (4, 0, "foe")))
 # Put together, 0 and 2 are foes of 1, 3 and 4, of which 3 and 4 are foes; apart, 0 and 2 and 1 are three foes.
 FIVE_PAPER = ("case", 0, 2, ("crowd", (0, 3, 4)), ("crowd", (0, 1, 2)))
-
-
-def full_web(many):
-    return (many, tuple((one, other, "foe") for one, other in itertools.combinations(range(many), 2)))
 
 
 def holds_slowly(web, k, thing):
